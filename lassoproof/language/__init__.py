@@ -1,0 +1,1 @@
+"""Terms, conditions and formulas: their texts, their trees and their values."""

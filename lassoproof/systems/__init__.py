@@ -1,0 +1,1 @@
+"""Systems of processes with bounded variables and guarded commands."""

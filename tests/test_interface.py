@@ -1,0 +1,44 @@
+"""The interface of the document: where each name is defined, and with which parameters."""
+
+import inspect
+import unittest
+from importlib import import_module
+
+FUNCTIONS = {
+    "lassoproof.language.tokens": {"tokenize": "(text)"},
+    "lassoproof.language.reader": {
+        "read_term": "(text)", "read_condition": "(text)", "read_formula": "(text)",
+    },
+    "lassoproof.language.values": {
+        "names_in": "(tree)", "is_condition": "(formula)", "value": "(term, values)",
+        "truth": "(condition, values)",
+    },
+    "lassoproof.systems.model": {"System": "(variables, processes, justice, compassion)"},
+    "lassoproof.errors": {
+        "SyntaxFault": "(place)", "KindFault": "(place)", "UnknownName": "(name)",
+        "DuplicateName": "(name)", "InvalidRange": "(name)",
+        "SharedAssignment": "(label, name)", "TooManyStates": "(limit)",
+        "TooManyPromises": "(count)", "InvalidPaper": "(line)",
+    },
+}
+METHODS = {
+    ("lassoproof.systems.model", "System"): {
+        "initial_states": "(self)", "truth": "(self, condition, state)",
+        "successors": "(self, state)",
+    },
+}
+
+
+class Interface(unittest.TestCase):
+    def test_functions_and_classes(self):
+        for module, names in FUNCTIONS.items():
+            for name, parameters in names.items():
+                found = getattr(import_module(module), name)
+                self.assertEqual(str(inspect.signature(found)), parameters, name)
+                self.assertEqual(found.__module__, module)
+
+    def test_methods_are_defined_in_the_class_itself(self):
+        for (module, name), methods in METHODS.items():
+            for method, parameters in methods.items():
+                found = vars(getattr(import_module(module), name))[method]
+                self.assertEqual(str(inspect.signature(found)), parameters, method)
