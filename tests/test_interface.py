@@ -13,6 +13,14 @@ FUNCTIONS = {
         "names_in": "(tree)", "is_condition": "(formula)", "value": "(term, values)",
         "truth": "(condition, values)",
     },
+    "lassoproof.language.writer": {"write_term": "(term)", "write_formula": "(formula)"},
+    "lassoproof.formulas.rows": {
+        "Rows": "(facts, rows)", "number_rows": "(formula)", "formula_of": "(rows, number)",
+    },
+    "lassoproof.formulas.positive": {"positive": "(formula)", "negated": "(formula)"},
+    "lassoproof.formulas.shrink": {"size": "(formula)", "shrink": "(formula)"},
+    "lassoproof.systems.reader": {"read_system": "(text)"},
+    "lassoproof.systems.writer": {"write_system": "(system)"},
     "lassoproof.systems.model": {"System": "(variables, processes, justice, compassion)"},
     "lassoproof.errors": {
         "SyntaxFault": "(place)", "KindFault": "(place)", "UnknownName": "(name)",

@@ -1,0 +1,1 @@
+"""Transforming formulas."""
