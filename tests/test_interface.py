@@ -19,6 +19,20 @@ FUNCTIONS = {
     },
     "lassoproof.formulas.positive": {"positive": "(formula)", "negated": "(formula)"},
     "lassoproof.formulas.shrink": {"size": "(formula)", "shrink": "(formula)"},
+    "lassoproof.lassos.words": {
+        "state_at": "(stem, loop, place)", "suffix": "(stem, loop, place)",
+        "unrolled": "(stem, loop, count)", "shortest": "(stem, loop)", "same_run": "(one, other)",
+    },
+    "lassoproof.lassos.meaning": {
+        "truths_along": "(formula, names, stem, loop)", "true_on": "(formula, names, stem, loop)",
+    },
+    "lassoproof.lassos.progress": {"moved_on": "(formula, names, state)"},
+    "lassoproof.graphs.walks": {
+        "reachable": "(after, starts)", "distances": "(after, starts)",
+        "shortest_path": "(after, starts, goals)",
+    },
+    "lassoproof.graphs.components": {"components": "(after, members)"},
+    "lassoproof.graphs.rounds": {"round_trip": "(after, members, targets)"},
     "lassoproof.systems.reader": {"read_system": "(text)"},
     "lassoproof.systems.writer": {"write_system": "(system)"},
     "lassoproof.systems.model": {"System": "(variables, processes, justice, compassion)"},

@@ -1,0 +1,1 @@
+"""Graphs as lists of successors: ways, components and round trips."""

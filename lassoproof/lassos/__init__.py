@@ -1,0 +1,1 @@
+"""Lassos: infinite runs that are given by a stem and a loop."""
