@@ -5,6 +5,7 @@ import unittest
 from lassoproof.formulas.positive import negated, positive
 from lassoproof.formulas.rows import formula_of, number_rows
 from lassoproof.formulas.shrink import shrink, size
+from lassoproof.lassos.meaning import truths_along
 from lassoproof.language.reader import read_condition, read_formula, read_term
 from lassoproof.language.tokens import tokenize
 from lassoproof.language.values import is_condition, names_in, truth, value
@@ -60,6 +61,8 @@ class DeepTrees(unittest.TestCase):
         self.assertEqual(formula_of(rows, len(rows.rows) - 1), tree)
         self.assertEqual(shrink(tree), tree)
         self.assertEqual(positive(("not", negated(tree))), positive(tree))
+        lasso = (["x"], [(0,), (1,)], [(1,), (2,), (1,)])
+        self.assertEqual(truths_along(tree, *lasso), truths_along(positive(tree), *lasso))
         if is_condition(tree):
             self.assertIn(truth(tree, {"x": 1}), (True, False))
 
@@ -70,6 +73,7 @@ class DeepTrees(unittest.TestCase):
         self.assertEqual(read_condition(write_formula(tree)), tree)
         self.assertEqual(number_rows(tree).facts, [P])
         self.assertIs(truth(tree, {"x": 1}), True)
+        self.assertEqual(truths_along(tree, ["x"], [(0,)], [(1,)] * 2000), [False] + [True] * 2000)
 
 
 class LongTexts(unittest.TestCase):

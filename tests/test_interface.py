@@ -35,6 +35,21 @@ FUNCTIONS = {
     "lassoproof.graphs.rounds": {"round_trip": "(after, members, targets)"},
     "lassoproof.systems.reader": {"read_system": "(text)"},
     "lassoproof.systems.writer": {"write_system": "(system)"},
+    "lassoproof.systems.space": {
+        "Space": "(states, starts, after)", "explore": "(system, *, limit=2000)",
+    },
+    "lassoproof.fairness.cycles": {"is_fair": "(loop, *, justice, compassion)"},
+    "lassoproof.fairness.blocks": {
+        "accepts_blocks": "(after, nodes, blocks, *, justice, compassion)",
+    },
+    "lassoproof.fairness.search": {"find_fair": "(after, starts, *, justice, compassion)"},
+    "lassoproof.checking.truths": {
+        "complete": "(rows, facts, promises)", "promised": "(rows, truths)",
+        "settled": "(rows, number, truths)",
+    },
+    "lassoproof.checking.verdicts": {
+        "Certificate": "(places, blocks)", "Verdict": "(holds, certificate, stem, loop)",
+    },
     "lassoproof.systems.model": {"System": "(variables, processes, justice, compassion)"},
     "lassoproof.errors": {
         "SyntaxFault": "(place)", "KindFault": "(place)", "UnknownName": "(name)",

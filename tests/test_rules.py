@@ -37,6 +37,8 @@ BARRED_WORDS = set(
     "type typing typing_extensions enum Enum IntEnum StrEnum Flag IntFlag Generic Protocol ABC "
     "ABCMeta namedtuple NamedTuple TypedDict TYPE_CHECKING abstractmethod".split()
 )
+ITERATING = set("list tuple dict sorted sum any all enumerate zip min max join".split())
+CHANGING = set("append clear extend insert pop remove reverse setdefault update".split())
 BARRED_ATTRIBUTES = set(
     "items keys values pop update append clear extend insert remove reverse setdefault sort args "
     "encode decode hex fromhex format format_map".split()
@@ -209,6 +211,53 @@ class Modules(unittest.TestCase):
             barred.update(node.name for node in nodes(path, ast.ClassDef))
             for node in nodes(path, ast.FunctionDef):
                 self.assertFalse(barred & set(stored(node)[1:]), (path, node.name))
+
+
+class Calls(unittest.TestCase):
+    def test_default_values_are_plain(self):
+        for path in FILES:
+            for node in nodes(path, ast.FunctionDef):
+                for value in node.args.defaults + node.args.kw_defaults:
+                    self.assertTrue(value is None or isinstance(value, ast.Constant), node.name)
+                self.assertIsNone(node.args.vararg or node.args.kwarg)
+
+    def test_what_is_iterated_at_once(self):
+        for path in FILES:
+            at_once = [node.iter for node in nodes(path, ast.For, ast.comprehension)]
+            for node in nodes(path, ast.Call):
+                if isinstance(node.func, ast.Name) and node.func.id in ITERATING:
+                    at_once += node.args
+            allowed = {(node.lineno, node.col_offset) for node in at_once}
+            for node in nodes(path, ast.Call, ast.GeneratorExp):
+                if isinstance(node, ast.GeneratorExp) or iterates_once(node):
+                    self.assertIn((node.lineno, node.col_offset), allowed, path)
+
+    def test_loops_do_not_change_what_they_iterate_over(self):
+        for path in FILES:
+            for loop in nodes(path, ast.For):
+                names = {node.id for node in ast.walk(loop.iter) if isinstance(node, ast.Name)}
+                for statement in loop.body:
+                    self.assertFalse(names & changed_in(statement), (path, loop.lineno))
+
+
+def iterates_once(call):
+    if isinstance(call.func, ast.Name):
+        return call.func.id in ("zip", "enumerate", "reversed", "range")
+    return isinstance(call.func, ast.Attribute) and call.func.attr in ("items", "keys", "values")
+
+
+def changed_in(statement):
+    """The names whose items a statement changes, or which it calls a changing method of."""
+    names = set()
+    for node in ast.walk(statement):
+        target = None
+        if isinstance(node, ast.Subscript) and not isinstance(node.ctx, ast.Load):
+            target = node.value
+        if isinstance(node, ast.Call) and isinstance(node.func, ast.Attribute):
+            target = node.func.value if node.func.attr in CHANGING else None
+        if isinstance(target, ast.Name):
+            names.add(target.id)
+    return names
 
 
 class Statements(unittest.TestCase):

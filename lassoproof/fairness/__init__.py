@@ -1,0 +1,1 @@
+"""Fairness on graphs: fair loops, blocks without fair runs, and the search for either."""
