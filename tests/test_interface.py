@@ -50,6 +50,23 @@ FUNCTIONS = {
     "lassoproof.checking.verdicts": {
         "Certificate": "(places, blocks)", "Verdict": "(holds, certificate, stem, loop)",
     },
+    "lassoproof.checking.search": {
+        "check": "(system, formula, *, limit=2000)",
+        "check_graph": "(after, starts, facts, rows, *, justice, compassion)",
+    },
+    "lassoproof.checking.checker": {
+        "accepts": "(system, formula, certificate)", "is_run": "(system, stem, loop)",
+        "is_fair_run": "(system, stem, loop)", "refutes": "(system, formula, stem, loop)",
+    },
+    "lassoproof.papers.certificates": {
+        "write_certificate": "(certificate)", "read_certificate": "(text)",
+    },
+    "lassoproof.branching.formulas": {"number_branches": "(formula)"},
+    "lassoproof.branching.answers": {
+        "Answer": "(truths, ranks)", "answer": "(after, facts, rows)",
+        "answer_system": "(system, formula, *, limit=2000)",
+    },
+    "lassoproof.branching.checker": {"accepts_answer": "(after, facts, rows, found)"},
     "lassoproof.systems.model": {"System": "(variables, processes, justice, compassion)"},
     "lassoproof.errors": {
         "SyntaxFault": "(place)", "KindFault": "(place)", "UnknownName": "(name)",

@@ -98,12 +98,16 @@ def holds(condition, values):
     return connected(word, left, holds(condition[2], values))
 
 
-def connected(word, left, right):
-    """The truth that an operator makes of two truths."""
+def connected(word, left, right, every=True):
+    """The truth that an operator makes of two truths.
+
+    A truth is True or False or a set of cases, whose members are the bits of an integer; every
+    is the truth of what is true in all cases.
+    """
     if word == "and":
-        return left and right
+        return left & right
     if word == "or":
-        return left or right
+        return left | right
     if word == "implies":
-        return right or not left
-    return left == right
+        return right | (every ^ left)
+    return every ^ left ^ right

@@ -1,0 +1,1 @@
+"""Branching time: formulas over paths, their answers, and the checker of answers."""

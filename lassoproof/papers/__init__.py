@@ -1,0 +1,1 @@
+"""Written answers: certificates and lassos as lines, and audits of texts."""
