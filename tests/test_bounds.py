@@ -2,6 +2,11 @@
 
 import unittest
 
+from lassoproof.branching.answers import answer_system
+from lassoproof.checking.checker import accepts
+from lassoproof.checking.search import check
+from lassoproof.checking.verdicts import Certificate
+from lassoproof.classes.lifting import check_by_classes
 from lassoproof.formulas.positive import negated, positive
 from lassoproof.formulas.rows import formula_of, number_rows
 from lassoproof.formulas.shrink import shrink, size
@@ -10,6 +15,8 @@ from lassoproof.language.reader import read_condition, read_formula, read_term
 from lassoproof.language.tokens import tokenize
 from lassoproof.language.values import is_condition, names_in, truth, value
 from lassoproof.language.writer import write_formula, write_term
+from lassoproof.papers.audit import audit, write_answer
+from lassoproof.papers.certificates import read_certificate, write_certificate
 from lassoproof.systems.model import System
 from lassoproof.systems.reader import read_system
 from lassoproof.systems.writer import write_system
@@ -106,6 +113,53 @@ class LongTexts(unittest.TestCase):
         system = read_system(text)
         self.assertEqual(write_system(system), text)
         self.assertEqual(len(system.successors(system.initial_states()[0])), 270)
+
+
+class LargeFormulas(unittest.TestCase):
+    """Formulas at the bounds in checks, with two ways to check and the written answers."""
+
+    def setUp(self):
+        self.system = read_system("var x in 0..2 start 0\nprocess p\nwhen true do x := 2 - x")
+
+    def check_formula(self, formula, wanted):
+        for function in (check, check_by_classes):
+            verdict = function(self.system, formula)
+            self.assertIs(verdict.holds, wanted)
+            paper = write_answer(verdict)
+            self.assertEqual(audit(self.system, formula, paper), "holds" if wanted else "fails")
+
+    def test_depth_40(self):
+        inner = ("always", ("eventually", ("equal", X, ("number", 2))))
+        self.check_formula(nested("not", inner, 34), True)
+        self.check_formula(nested("not", inner, 35), False)
+        self.check_formula(nested("next", inner, 10), True)
+        deep = nested("until", ("upto", X, ("number", 2)), 12, P)
+        self.check_formula(nested("and", deep, 26, ("true",)), False)
+
+    def test_a_thousand_nodes(self):
+        leaf = ("eventually", ("equal", X, ("number", 2)))
+        self.check_formula(balanced("or", balanced("and", leaf, 4), 3), True)
+        self.check_formula(("next", balanced("and", P, 7)), False)
+
+    def test_branching_formulas(self):
+        goal = ("equal", X, ("number", 2))
+        for word in ("ex", "ax", "ef", "af", "eg", "ag"):
+            formula = nested(word, goal, 38)
+            self.assertEqual(depth(formula), 40)
+            wanted = word in ("ex", "ax") and 38 % 2 == 1 or word in ("ef", "af")
+            self.assertIs(answer_system(self.system, formula), wanted, word)
+        for word in ("eu", "au"):
+            before = ("below", X, ("number", 2))
+            self.assertIs(answer_system(self.system, nested(word, before, 38, goal)), True)
+            self.assertIs(answer_system(self.system, nested(word, P, 38, goal)), False)
+
+    def test_forty_blocks_around_a_block(self):
+        blocks = [("once", 0, [0], [])]
+        for _ in range(40):
+            blocks = [("compassion", 0, [0], blocks)]
+        certificate = Certificate([((0,), ())], blocks)
+        self.assertEqual(read_certificate(write_certificate(certificate)).blocks, blocks)
+        self.assertIs(accepts(self.system, ("true",), certificate), False)
 
 
 class LargeSystems(unittest.TestCase):

@@ -165,6 +165,26 @@ class RandomGraphs(Graphs):
                 found[self.ask(random, formula, 1 + random.randrange(4)).holds] += 1
         self.assertGreater(min(found.values()), 100)
 
+    def test_random_rows_made_by_hand(self):
+        random = Random(97)
+        for _ in range(300):
+            triples = [("fact", 0, -1), ("fact", 1, -1)]
+            for _ in range(random.randrange(1, 5)):
+                word = random.choice(UNARY + BINARY + ("not", "and", "same", "true"))
+                parts = [random.randrange(len(triples)) for _ in range(2)]
+                if word == "true":
+                    parts = [-1, -1]
+                elif word in UNARY + ("not",):
+                    parts[1] = -1
+                triples += [(word, *parts)] * random.choice([1, 1, 2])
+            rows = Rows([P, Q], triples)
+            if len(rows.temporal) <= 4:
+                count = 1 + random.randrange(4)
+                after = [following or [0] for following in random_graph(random, count, 0.4)]
+                facts = [[random.random() < 0.5, random.random() < 0.5] for _ in range(count)]
+                justice, compassion = random_conditions(random, count)
+                self.check(after, [0, count - 1], facts, rows, justice, compassion)
+
     def test_every_word_and_its_negation(self):
         random = Random(92)
         for word in UNARY + BINARY:

@@ -61,6 +61,23 @@ FUNCTIONS = {
     "lassoproof.papers.certificates": {
         "write_certificate": "(certificate)", "read_certificate": "(text)",
     },
+    "lassoproof.papers.lassos": {"write_lasso": "(stem, loop)", "read_lasso": "(text)"},
+    "lassoproof.papers.audit": {
+        "write_answer": "(verdict)", "audit": "(system, formula, text)",
+    },
+    "lassoproof.classes.partition": {
+        "rounds_apart": "(after, labels)", "classes": "(after, labels)",
+    },
+    "lassoproof.classes.telling": {
+        "telling": "(after, labels, one, other)", "truths_of": "(after, labels, rows)",
+    },
+    "lassoproof.classes.quotient": {
+        "Quotient": "(class_of, after, starts, labels)", "quotient": "(after, starts, labels)",
+    },
+    "lassoproof.classes.lifting": {
+        "lift_lasso": "(after, starts, class_of, stem, loop)",
+        "check_by_classes": "(system, formula, *, limit=2000)",
+    },
     "lassoproof.branching.formulas": {"number_branches": "(formula)"},
     "lassoproof.branching.answers": {
         "Answer": "(truths, ranks)", "answer": "(after, facts, rows)",

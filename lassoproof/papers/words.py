@@ -1,7 +1,6 @@
 """The words of written answers (points 8.1 to 8.3)."""
 
-DIGITS = "0123456789"
-MOST_DIGITS = 18
+from lassoproof.language.tokens import DIGITS, MOST_DIGITS
 
 
 def is_natural(word):

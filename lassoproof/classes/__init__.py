@@ -1,0 +1,1 @@
+"""Classes of nodes that no rounds tell apart, and checks by classes."""
